@@ -1,0 +1,1 @@
+"""Scripts on distances that nobody has measured."""
