@@ -6,6 +6,9 @@ from missingmiles.errors import InvalidRatio
 
 MOST_FIGURES = 60
 
+ZERO = (0, 1)
+ONE = (1, 1)
+
 
 def _is_whole(value):
     return isinstance(value, int) and not isinstance(value, bool)
@@ -68,7 +71,7 @@ def ratio_of(value):
 
 def added(*values):
     """The sum of any number of ratios."""
-    total = (0, 1)
+    total = ZERO
     for value in values:
         top, bottom = ratio_of(value)
         total = _lowest(total[0] * bottom + top * total[1], total[1] * bottom)
@@ -77,7 +80,7 @@ def added(*values):
 
 def multiplied(*values):
     """The product of any number of ratios."""
-    product = (1, 1)
+    product = ONE
     for value in values:
         top, bottom = ratio_of(value)
         product = _lowest(product[0] * top, product[1] * bottom)

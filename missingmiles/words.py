@@ -11,4 +11,4 @@ def is_name(value):
 
 def is_layer(value, layers=2):
     """Whether any value is one of the first so many layers."""
-    return isinstance(value, str) and value in LAYERS[:layers]
+    return value in LAYERS[:layers]

@@ -84,12 +84,14 @@ class Attributes(unittest.TestCase):
                     class_of(name)()
 
     def test_lists_are_copied(self):
-        given = [1, [2], ([3],)]
-        error = InvalidRatio(given)
-        given[1].append(4)
-        given[2][0].append(5)
-        given.append(6)
-        self.assertEqual(error.given, [1, [2], ([3],)])
+        for name, parameters in ALL.items():
+            given = [1, [2], ([3],)]
+            error = class_of(name)(*[given] * len(parameters))
+            given[1].append(4)
+            given[2][0].append(5)
+            given.append(6)
+            for parameter in parameters:
+                self.assertEqual(getattr(error, parameter), [1, [2], ([3],)], name)
 
     def test_several_attributes_do_not_mix(self):
         error = InvalidWay("cart", 1, 2)

@@ -1,6 +1,7 @@
 """The form of the package: sizes, characters, imports and words that ../shared/LANGUAGE.md asks for."""
 
 import ast
+import re
 import unittest
 from pathlib import Path
 
@@ -14,6 +15,8 @@ LIBRARY = {"heapq": {"heappush", "heappop", "heapify", "heapreplace", "heappushp
            "itertools": {"product", "combinations", "permutations"}}
 BARRED_NODES = (ast.GeneratorExp, ast.Global, ast.AsyncFunctionDef, ast.Import, ast.AnnAssign, ast.SetComp, ast.Set)
 BARRED_NAMES = {"register", "mro", "elements", "open", "input", "law", "dir", "id", "vars", "hash", "type", "compile"}
+BARRED_WORDS = """type typing typing_extensions enum Enum IntEnum StrEnum Flag IntFlag Generic Protocol ABC ABCMeta
+    namedtuple NamedTuple TypedDict TYPE_CHECKING abstractmethod""".split()
 DOUBLE = {"__init__", "__eq__", "__repr__", "__len__", "__bool__", "__contains__", "__add__", "__mul__", "__call__"}
 
 # The entries of the interface that have been built: module, then classes with their methods, then functions.
@@ -22,6 +25,18 @@ INTERFACE = {
     "ratios": ({}, ["ratio", "ratio_of", "is_ratio", "is_number", "added", "multiplied", "is_less", "ratio_text",
                     "read_ratio"]),
     "words": ({}, ["is_name", "is_layer"]),
+    "straight": ({
+        "Problem": ["__init__", "size", "rows", "row_with", "keeps", "solve", "greatest", "__len__", "__bool__",
+                    "__eq__", "__repr__"],
+        "Answer": ["__init__", "problem", "told", "holds", "__bool__", "__repr__"],
+        "Solved": ["__init__", "numbers", "holds"], "Barred": ["__init__", "weights", "holds"],
+        "Top": ["__init__", "factors", "weights", "told", "holds"],
+        "Endless": ["__init__", "factors", "direction", "holds"],
+    }, []),
+    "worlds": ({"World": ["__init__", "size", "layers", "names", "place", "table", "far", "part", "grown",
+                          "__contains__", "__len__", "__bool__", "__eq__", "__repr__"]}, []),
+    "steps": ({}, ["is_leaf", "changed"]),
+    "texts": ({}, ["text_of", "read_steps"]),
 }
 
 
@@ -91,6 +106,12 @@ class Form(unittest.TestCase):
                 self.assertNotIn("%", str(node.value), name)
             if isinstance(node, ast.BinOp):
                 self.assertNotIsInstance(node.op, ast.Div, name)
+
+    def test_words_that_do_not_occur(self):
+        for path in files():
+            text = path.read_text()
+            self.assertEqual([word for word in BARRED_WORDS if re.search(rf"\b{word}\b", text)], [], path.name)
+            self.assertIsNone(re.search("dataclass|overload|contextmanager|_wall", text), path.name)
 
     def test_interface_stands_in_its_files(self):
         for module, (classes, functions) in INTERFACE.items():
