@@ -15,3 +15,8 @@ def listed(value):
     if isinstance(value, (list, tuple)):
         return [copied(item) for item in value]
     return value
+
+
+def length_of(value):
+    """The number of items of a list or tuple, 0 for any other value."""
+    return len(value) if isinstance(value, (list, tuple)) else 0

@@ -2,7 +2,7 @@
 
 from missingmiles.errors import DuplicateName, InvalidStep, TooMany, UnknownName
 from missingmiles.ratios import ZERO, added, is_less, multiplied, ratio_of
-from missingmiles.shapes import SHAPES, is_item, known_names
+from missingmiles.shapes import SHAPES, are_items, known_names
 from missingmiles.words import LAYERS
 from missingmiles.worlds import MOST_NAMES, World, world_of
 
@@ -12,9 +12,7 @@ def is_leaf(value, layers=2):
     if not isinstance(value, tuple) or not value or not isinstance(value[0], str):
         return False
     word, *items = value
-    if word not in SHAPES or len(items) != len(SHAPES[word]):
-        return False
-    if not all([is_item(kind, item, layers) for kind, item in zip(SHAPES[word], items)]):
+    if word not in SHAPES or not are_items(SHAPES[word], items, layers):
         return False
     if word == "ride":
         return layers == 2

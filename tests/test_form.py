@@ -37,6 +37,20 @@ INTERFACE = {
                           "__contains__", "__len__", "__bool__", "__eq__", "__repr__"]}, []),
     "steps": ({}, ["is_leaf", "changed"]),
     "texts": ({}, ["text_of", "read_steps"]),
+    "scripts": ({"Script": ["__init__", "layers", "tests", "puts", "names", "ends", "steps", "text", "without",
+                            "swapped", "read", "__add__", "__mul__", "__eq__", "__len__", "__bool__", "__repr__"]},
+                ["run", "trace"]),
+    "forms": ({"Form": ["__init__", "constant", "parts", "factor", "value", "text", "is_under", "__add__", "__mul__",
+                        "__eq__", "__bool__", "__repr__"]}, ["plain_forms"]),
+    "cases": ({"Case": ["rows", "points", "forms", "__repr__"]}, ["cases", "triangles"]),
+    "facts": ({}, ["is_fact", "fact_row", "keeps", "survey_problem", "survey", "extreme", "surely"]),
+    "means": ({"Mean": ["__init__", "weights", "sums", "shows", "is_void", "__eq__", "__repr__"]}, []),
+    "verdicts": ({
+        "Verdict": ["__init__", "one", "other", "told", "holds", "__bool__", "__repr__"],
+        "Alike": ["__init__", "rows", "facts", "told", "holds", "__bool__"],
+        "Parted": ["__init__", "world", "distances", "holds"], "Exceeds": ["__init__", "holds"],
+    }, []),
+    "comparing": ({}, ["compare", "are_alike", "never_longer"]),
 }
 
 

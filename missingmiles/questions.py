@@ -1,0 +1,28 @@
+"""Questions about the distances between some points in all worlds, as straight problems."""
+
+from missingmiles.ratios import ZERO, added, multiplied
+from missingmiles.straight import Problem
+from missingmiles.worlds import world_of
+
+
+def _less(one, other):
+    return added(one, multiplied(other, -1))
+
+
+def straight_row(keys, row):
+    """The row of a problem, whose unknowns are the distances of the keys, for a row of two forms."""
+    low, high, strict = row
+    factors = [_less(low.factor(key), high.factor(key)) for key in keys]
+    return (factors, _less(high.constant, low.constant), strict)
+
+
+def problem_of(keys, rows):
+    """The problem whose unknowns are the distances of the keys, with rows of forms."""
+    return Problem(len(keys), [straight_row(keys, row) for row in rows])
+
+
+def world_with(names, points, layers, keys, numbers):
+    """The world whose places are some points, names among them, with distances by keys."""
+    far = {key: number for key, number in zip(keys, numbers)}
+    tables = [[[far.get((layer, start, goal), ZERO) for goal in points] for start in points] for layer in layers]
+    return world_of({name: points.index(name) for name in names}, tables)
