@@ -41,14 +41,14 @@ class Ground:
         plain = _plain_mean(form, forms, rows)
         if plain is not None:
             return plain
-        return self._solved([*rows, *[(form, other, True) for other in forms]], len(forms))
+        return self._answered([*rows, *[(form, other, True) for other in forms]], len(forms))
 
     def void_mean(self, rows):
         """A mean that shows that no world keeps some rows, or None."""
         answer = problem_of(self._keys, rows).solve()
         return None if answer else _mean_of(answer.weights(), 0)
 
-    def _solved(self, rows, many):
+    def _answered(self, rows, many):
         answer = problem_of(self._keys, rows).solve()
         if not answer:
             return _mean_of(answer.weights(), many)

@@ -5,7 +5,7 @@ from missingmiles.checks import check_layers, check_names
 from missingmiles.errors import InvalidFact, InvalidLayer, InvalidNumber, NoWorld, UnknownName
 from missingmiles.forms import Form, keys_of
 from missingmiles.questions import problem_of, world_with
-from missingmiles.ratios import ONE, ZERO, can_be_ratio, is_less, is_number, multiplied, ratio_of
+from missingmiles.ratios import ONE, ZERO, can_be_ratio, is_less, is_number, multiplied
 from missingmiles.straight import Problem
 from missingmiles.words import LAYERS, is_layer
 

@@ -64,10 +64,10 @@ class Spread:
     def with_point(self, name):
         """The spread with a point more ahead of the strangers, and a name for it."""
         *others, one, other = self._points
-        puts = [point for point in others if point.startswith("+")]
-        point = f"+{len(puts) + 1}"
-        named = {**self._named, name: point}
-        return Spread(self._frame, self._layers, [*others, point, one, other], named, self._table)
+        put_before = [point for point in others if point.startswith("+")]
+        put = f"+{len(put_before) + 1}"
+        named = {**self._named, name: put}
+        return Spread(self._frame, self._layers, [*others, put, one, other], named, self._table)
 
     def without_name(self, gone):
         """The spread in which a name is gone; its point stays."""

@@ -60,7 +60,7 @@ class Reader:
 
     def all_steps(self):
         """The steps that all of the words make."""
-        steps = self._steps()
+        steps = self._step_list()
         if self._at < len(self._words):
             raise InvalidText(self._at)
         return steps
@@ -77,7 +77,7 @@ class Reader:
             raise InvalidText(self._at)
         self._at += 1
 
-    def _steps(self):
+    def _step_list(self):
         steps = [self._step()]
         while self._word() == ";":
             self._at += 1
@@ -122,7 +122,7 @@ class Reader:
             raise InvalidText(self._at)
         self._pass("(")
         self._opened += 1
-        steps = () if self._word() == ")" else self._steps()
+        steps = () if self._word() == ")" else self._step_list()
         self._pass(")")
         self._opened -= 1
         return steps

@@ -3,7 +3,7 @@
 from missingmiles.errors import (InvalidLayer, InvalidName, InvalidNumber, InvalidPlace, InvalidTable, InvalidWay,
                                  TooMany, UnknownName, UnlikeWorlds)
 from missingmiles.ratios import ZERO, added, is_length, is_less, is_number, multiplied, ratio_of
-from missingmiles.words import LAYERS, is_layer, is_name
+from missingmiles.words import is_layer, is_name
 
 MOST_NAMES = 5
 
