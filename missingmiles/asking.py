@@ -1,10 +1,13 @@
-"""Asking whether a form can be below all of some forms: a mean shows that it cannot, or a world that it can."""
+"""Asking whether a form can be below all of some forms, and how far.
+
+A mean shows that it cannot, or a world that it can.
+"""
 
 from missingmiles.forms import keys_of
 from missingmiles.means import Mean
-from missingmiles.questions import problem_of, world_with
+from missingmiles.questions import gap_problem, problem_of, world_with
 from missingmiles.ratios import ONE, ZERO, added, multiplied, ratio
-from missingmiles.words import LAYERS
+from missingmiles.words import LAYERS, STRANGERS
 
 
 def _mean_of(weights, many):
@@ -52,4 +55,18 @@ class Ground:
         answer = problem_of(self._keys, rows).solve()
         if not answer:
             return _mean_of(answer.weights(), many)
-        return world_with(self._names, self._points, self._layers, self._keys, answer.numbers())
+        return self.world_at(answer.numbers())
+
+    def greatest_gap(self, form, forms, rows):
+        """What is told of the greatest number by which the form is below all forms; a Barred if it never is."""
+        only_gap = [*[ZERO for _ in self._keys], ONE]
+        return gap_problem(self._keys, form, forms, rows).greatest(only_gap)
+
+    def world_at(self, numbers):
+        """The world with some numbers for its distances; what is told behind them does not count."""
+        return world_with(self._names, self._points, self._layers, self._keys, numbers)
+
+
+def grounds_of(script):
+    """The grounds of the names of a script without strangers, with the first one, and with both."""
+    return [Ground(script.names(), STRANGERS[:many], script.layers) for many in range(len(STRANGERS) + 1)]

@@ -1,12 +1,11 @@
 """Comparing two scripts for all worlds."""
 
-from missingmiles.asking import Ground
+from missingmiles.asking import grounds_of
 from missingmiles.errors import UnlikeScripts
 from missingmiles.facts import check_facts
 from missingmiles.means import Mean
-from missingmiles.pairings import SIDES, Pairing, fit, strangers_in
+from missingmiles.pairings import SIDES, Pairing, fit, places_behind, strangers_in
 from missingmiles.verdicts import Alike, Exceeds, Parted
-from missingmiles.words import STRANGERS
 
 # A form of the second script that is below all of the first one makes the first distance the greater one.
 LONGER = ("other",)
@@ -17,7 +16,7 @@ def compare(one, other, *, facts=()):
     rows = []
     for key, answer in _answers(one, other, facts, SIDES):
         if not isinstance(answer, Mean):
-            start, goal = _places(one, answer, key)
+            start, goal = places_behind(one, key[4], key[5])
             return Parted(one, other, answer, start, goal, layer=key[3])
         rows.append((key, answer))
     return Alike(one, other, rows, facts=facts)
@@ -32,7 +31,7 @@ def never_longer(one, other, *, facts=()):
     """None if no distance is ever greater behind the first script, otherwise an Exceeds."""
     for key, answer in _answers(one, other, facts, LONGER):
         if not isinstance(answer, Mean):
-            start, goal = _places(one, answer, key)
+            start, goal = places_behind(one, key[4], key[5])
             return Exceeds(one, other, answer, start, goal, layer=key[3])
     return None
 
@@ -43,7 +42,7 @@ def _answers(one, other, facts, sides):
         raise UnlikeScripts()
     check_facts(facts, one.names(), one.layers)
     pairing = Pairing(one, other, facts)
-    grounds = [Ground(one.names(), STRANGERS[:many], one.layers) for many in range(3)]
+    grounds = grounds_of(one)
     for duo in pairing.duos():
         rows = pairing.duo_rows(duo)
         void = grounds[0].void_mean(rows[0])
@@ -54,11 +53,3 @@ def _answers(one, other, facts, sides):
             for key, form, forms in pairing.questions(duo, side):
                 many = len(strangers_in(key))
                 yield (key, grounds[many].mean_or_world(form, forms, rows[many]))
-
-
-def _places(script, world, key):
-    """The places behind a script of the start and the goal of a key."""
-    places = {point: at for at, point in enumerate([*script.names(), *strangers_in(key)])}
-    for put in range(script.puts):
-        places[f"+{put + 1}"] = world.size + put
-    return places[key[4]], places[key[5]]

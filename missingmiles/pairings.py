@@ -3,6 +3,7 @@
 from missingmiles.cases import cases, triangles
 from missingmiles.facts import fact_rows
 from missingmiles.words import LAYERS, STRANGERS
+from missingmiles.worlds import World
 
 # The first words of the keys of an Alike: whose forms are held against those of the other script.
 SIDES = ("one", "other")
@@ -28,6 +29,28 @@ def looked_at(points):
 def strangers_in(points):
     """The list of the strangers among some points."""
     return [stranger for stranger in STRANGERS if stranger in points]
+
+
+def places_behind(script, start, goal):
+    """The places of a pair of points behind a script, if the strangers of the pair stand behind the names."""
+    puts = [f"+{put + 1}" for put in range(script.puts)]
+    points = [*script.names(), *strangers_in((start, goal)), *puts]
+    return points.index(start), points.index(goal)
+
+
+def places_of_strangers(script, start, goal):
+    """The places of the strangers of a pair, behind those of the names of a script."""
+    first = len(script.names())
+    return list(range(first, first + len(strangers_in((start, goal)))))
+
+
+def is_world_for(value, script, start, goal):
+    """Whether any value is a world of the names of a script, ascending, and behind them the strangers of a pair."""
+    names = script.names()
+    if not isinstance(value, World) or value.layers != script.layers or value.names() != names:
+        return False
+    places = [*[value.place(name) for name in names], *places_of_strangers(script, start, goal)]
+    return places == list(range(value.size))
 
 
 class Pairing:

@@ -87,11 +87,25 @@ def multiplied(*values):
     return product
 
 
+def difference(one, other):
+    """One ratio less another one."""
+    return added(one, multiplied(other, -1))
+
+
 def is_less(one, other):
     """Whether one ratio is less than another one."""
     top, bottom = ratio_of(one)
     other_top, other_bottom = ratio_of(other)
     return top * other_bottom < other_top * bottom
+
+
+def least_of(first, *others):
+    """The least of some ratios."""
+    least = first
+    for value in others:
+        if is_less(value, least):
+            least = value
+    return least
 
 
 def _figures(number):
@@ -131,3 +145,11 @@ def read_ratio(text):
         if is_ratio(value) and ratio_text(value) == text:
             return value
     raise InvalidRatio(text)
+
+
+def ratio_or_none(text):
+    """The ratio with a text, or None for any other value."""
+    try:
+        return read_ratio(text)
+    except InvalidRatio:
+        return None

@@ -1,7 +1,7 @@
 """Steps, and the worlds behind those that have no steps in them."""
 
 from missingmiles.errors import DuplicateName, InvalidStep, TooMany, UnknownName
-from missingmiles.ratios import ZERO, added, is_less, multiplied, ratio_of
+from missingmiles.ratios import ZERO, added, least_of, multiplied, ratio_of
 from missingmiles.shapes import SHAPES, are_items, known_names
 from missingmiles.words import LAYERS
 from missingmiles.worlds import MOST_NAMES, World, world_of
@@ -45,10 +45,6 @@ def _with_table(world, layer, table):
     return world_of(_places(world), tables)
 
 
-def _least(one, other):
-    return other if is_less(other, one) else one
-
-
 def _with_road(world, layer, start, goal, length):
     """The world with a road between two places on a layer."""
     table = world.table(layer)
@@ -56,7 +52,7 @@ def _with_road(world, layer, start, goal, length):
     rows = []
     for row in table:
         ahead = added(row[start], length)
-        rows.append([_least(far, added(ahead, rest)) for far, rest in zip(row, behind)])
+        rows.append([least_of(far, added(ahead, rest)) for far, rest in zip(row, behind)])
     return _with_table(world, layer, rows)
 
 
@@ -117,7 +113,7 @@ def _cap(world, step):
     _, layer, most = step
     cap = ratio_of(most)
     # The distance 0 from a place to itself is never above the cap.
-    table = [[_least(far, cap) for far in row] for row in world.table(layer)]
+    table = [[least_of(far, cap) for far in row] for row in world.table(layer)]
     return _with_table(world, layer, table)
 
 

@@ -1,7 +1,7 @@
 """The texts of steps."""
 
-from missingmiles.errors import InvalidRatio, InvalidText
-from missingmiles.ratios import ratio_text, read_ratio
+from missingmiles.errors import InvalidText
+from missingmiles.ratios import ratio_or_none, ratio_text
 from missingmiles.shapes import ASKED, SHAPES, is_item
 
 MOST_OPEN = 12
@@ -131,15 +131,8 @@ class Reader:
         """The item that the next word is."""
         value = self._word()
         if kind in ("length", "scale"):
-            value = _ratio_or_none(value)
+            value = ratio_or_none(value)
         if not is_item(kind, value):
             raise InvalidText(self._at)
         self._at += 1
         return value
-
-
-def _ratio_or_none(word):
-    try:
-        return read_ratio(word)
-    except InvalidRatio:
-        return None

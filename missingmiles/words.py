@@ -4,9 +4,19 @@ LAYERS = ("foot", "cart")
 STRANGERS = ("?1", "?2")
 
 
+def _are_letters(value, most):
+    """Whether any value is a string of lowercase letters, from 1 to so many."""
+    return isinstance(value, str) and len(value) <= most and value.isascii() and value.isalpha() and value.islower()
+
+
 def is_name(value):
     """Whether any value is a name: 1 to 5 lowercase letters."""
-    return isinstance(value, str) and len(value) <= 5 and value.isascii() and value.isalpha() and value.islower()
+    return _are_letters(value, 5)
+
+
+def is_word(value):
+    """Whether any value is a word for a script: 1 to 8 lowercase letters."""
+    return _are_letters(value, 8)
 
 
 def is_layer(value, layers=2):

@@ -204,6 +204,14 @@ class Errors(unittest.TestCase):
                 error = raised(self, TooMany, call, one, other, facts=[most(-1)])
                 self.assertEqual((error.subject, error.most), ("cases", 60))
 
+    def test_names_at_the_beginning(self):
+        # Both end with the same names and put in no place.
+        one, other = read("forget b", names=AB), read("", names=["a"])
+        self.assertEqual((one.ends(), one.puts), (other.ends(), other.puts))
+        for call in (compare, are_alike, never_longer):
+            raised(self, UnlikeScripts, call, one, other)
+            raised(self, UnlikeScripts, call, other, one)
+
     def test_layers_of_facts(self):
         fact = most(1, far("a", "b", layer="cart"))
         self.assertEqual(raised(self, InvalidFact, compare, read(""), read(""), facts=[fact]).at, 0)

@@ -60,6 +60,7 @@ class Facts(unittest.TestCase):
             self.assertIs(is_fact(fact, ("b", "a", "c"), 2), True)
         self.assertIs(is_fact(most(1, far("a", "b"), far("a", "b", layer="cart")), AB, 2), True)
         self.assertIs(is_fact(value=most(0), names=[], layers=1), True)
+        self.assertIs(is_fact(most(1, far("a", "b", layer="cart")), AB), False)
 
     def test_wrong_facts(self):
         for layers in (1, 2):

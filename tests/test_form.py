@@ -51,6 +51,18 @@ INTERFACE = {
         "Parted": ["__init__", "world", "distances", "holds"], "Exceeds": ["__init__", "holds"],
     }, []),
     "comparing": ({}, ["compare", "are_alike", "never_longer"]),
+    "lists": ({"ShortList": ["__init__", "source", "forms", "worlds", "holds", "__len__", "__bool__", "__repr__"]},
+              ["shortest"]),
+    "amounts": ({"Amount": ["__init__", "told", "holds"], "Growing": ["__init__", "growth", "slopes", "holds"]},
+                ["most_over", "most_saved"]),
+    "claims": ({}, ["needless", "exchangeable", "settles"]),
+    "journeys": ({"Journey": ["__init__", "go", "undo", "redo", "world", "busy", "history", "log", "stations", "gains",
+                              "twin", "__len__", "__bool__", "__repr__"]}, []),
+    "atlases": ({"Atlas": ["__init__", "layers", "limit", "set_limit", "names", "words", "apply", "undo", "redo",
+                           "history", "busy", "script", "facts", "alike", "kept", "computed", "__contains__", "__len__",
+                           "__bool__", "__eq__", "__repr__", "twin"]}, []),
+    "pages": ({}, ["write_page", "read_page"]),
+    "desk": ({"Desk": ["__init__", "say", "__call__", "atlas", "log", "__len__", "__bool__", "__repr__"]}, []),
 }
 
 

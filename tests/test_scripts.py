@@ -210,6 +210,11 @@ class Names(unittest.TestCase):
         # What the first part forgets is there in the second one.
         self.assertEqual(Script(AB, (ask([("forget", "a")], [("forget", "a")]),)).ends(), ["b"])
 
+    def test_names_that_are_words_of_steps(self):
+        names = ["foot", "round", "turn"]
+        script = Script.read(names, "turn ; round foot ; road foot foot turn 1 ; cap foot 2 ; scale foot 3")
+        self.assertEqual((script.ends(), len(script)), (names, 5))
+
     def test_duplicates(self):
         for steps in [(("place", "b", "a", 1, 1),), (("place", "c", "a", 1, 1), ("place", "c", "a", 1, 1)),
                       (again(2, ("place", "c", "a", 1, 1)),), (ask([("place", "b", "a", 1, 1)], []),)]:
@@ -399,6 +404,12 @@ class Running(unittest.TestCase):
         behind = run(script, world)
         self.assertEqual((behind.table(), behind.table("cart")),
                          ([[(0, 1), (2, 1)], [(7, 1), (0, 1)]], [[(0, 1), (1, 1)], [(2, 1), (0, 1)]]))
+
+    def test_the_layer_that_is_asked(self):
+        world = World({"a": 0, "b": 1}, [[0, 9], [9, 0]], cart=[[0, 1], [1, 0]])
+        for layer, far in [("foot", 3), ("cart", 2)]:
+            script = Script.read(["a", "b"], f"if {layer} a b 5 ( cap foot 2 ) else ( cap foot 3 )", layers=2)
+            self.assertEqual(run(script, world).far("a", "b"), (far, 1))
 
     def test_unlike_worlds(self):
         script = Script(AB, (TURN,))
